@@ -1,0 +1,1 @@
+"""Phrases of a program in several tongues, each tongue put from an earlier one."""
