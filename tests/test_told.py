@@ -6,6 +6,7 @@ import random
 import unittest
 
 import reference
+from odd import ODD
 from phrasedesk.answers import Fresh, Old
 from phrasedesk.errors import BadFroms, BadRow, BadTongue
 from phrasedesk.told import told
@@ -14,8 +15,6 @@ GREAT = 10 ** 70
 CHAIN = [0, 1, 2, 3, 4, 5, 6]
 STAR = [0] * 7
 TREE = [0, 0, 1, 1, 2, 4, 6]
-ODD = [None, True, False, "", "0", "ab", b"", b"\x00", (), (0,), (0, None), [], [0], [None], {}, {0: 0}, set(), {0},
-       frozenset(), range(2), object(), object, len, iter([0]), ValueError("0"), Fresh()]
 
 
 def fresh_row(froms, first=0, step=1):
